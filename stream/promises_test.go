@@ -30,6 +30,12 @@ func TestNoPanic(t *testing.T) {
 		if out, e := stream.Serialize(strangeStream(&d)); (e == api.OK) == (out == "") {
 			t.Fatalf("Serialize = %q, %d", out, e)
 		}
+		texts := strangeTexts(&d)
+		for i, c := range []call{compose, squash} {
+			if out, e := c.do(texts); e != toldOf(texts, i == 1) || (e == api.OK) == (out == "") {
+				t.Fatalf("%s(%q) = %q, %d", c.name, texts, out, e)
+			}
+		}
 	}
 }
 
@@ -46,6 +52,19 @@ func strangeText(d *dice) string {
 		return summed(string(b))
 	}
 	return string(b)
+}
+
+// strangeTexts are texts that can mostly be read, and seldom go together.
+func strangeTexts(d *dice) []string {
+	var texts []string
+	for range d.below(19) {
+		if d.below(20) == 0 {
+			texts = append(texts, strangeText(d))
+		} else {
+			texts = append(texts, summed(headText(d.below(2), 1+d.below(3), 1+d.below(2), 1, 1)+frees(0)))
+		}
+	}
+	return texts[:d.below(len(texts)+1)]
 }
 
 // strangeStream is a stream that is sometimes well made.

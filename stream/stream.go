@@ -33,10 +33,31 @@ func Apply(text string, v []api.Cell) ([]api.Cell, api.Errno) {
 }
 
 // Compose puts streams together (P6).
-func Compose(texts []string) (string, api.Errno) { return "", api.OK }
+func Compose(texts []string) (string, api.Errno) {
+	chain, e := readChain(texts)
+	if e != api.OK {
+		return "", e
+	}
+	if !linked(chain) {
+		return "", api.ErrChain
+	}
+	return textOf(chain, latest(chain)), api.OK
+}
 
 // Squash puts streams together with a whole one (P6).
-func Squash(texts []string) (string, api.Errno) { return "", api.OK }
+func Squash(texts []string) (string, api.Errno) {
+	chain, e := readChain(texts)
+	if e != api.OK {
+		return "", e
+	}
+	if !whole(chain[0]) {
+		return "", api.ErrWhole
+	}
+	if !linked(chain) {
+		return "", api.ErrChain
+	}
+	return textOf(chain, held(latest(chain))), api.OK
+}
 
 // Split cuts a stream into chunks (P7).
 func Split(text string, limit int) ([]string, api.Errno) { return nil, api.OK }

@@ -1,0 +1,56 @@
+package stream
+
+import (
+	"iter"
+	"slices"
+
+	"strand/api"
+)
+
+// readChain reads the texts of streams that are to be put together, all of them: what can't be read is told ahead of what does not go together.
+func readChain(texts []string) ([]api.Stream, api.Errno) {
+	if !within(len(texts), 1, api.MaxChain) {
+		return nil, api.ErrArg
+	}
+	return atFace(func() []api.Stream {
+		chain := make([]api.Stream, len(texts))
+		for i, text := range texts {
+			chain[i] = readStream(text)
+		}
+		return chain
+	})
+}
+
+// whole tells whether a stream is a whole one.
+func whole(s api.Stream) bool {
+	return s.From == 0 && !slices.ContainsFunc(s.Records, func(r api.Record) bool { return r.Free })
+}
+
+// linked tells whether each stream goes on where the one ahead ends, and the last ends elsewhere than the first begins.
+func linked(chain []api.Stream) bool {
+	last := chain[0]
+	for _, s := range chain[1:] {
+		if s.Blocks != last.Blocks || s.Size != last.Size || s.From != last.To {
+			return false
+		}
+		last = s
+	}
+	return last.To != chain[0].From
+}
+
+// latest goes through the records of the streams, merged: of each block that of the last stream that has one.
+func latest(chain []api.Stream) iter.Seq[api.Record] {
+	parts := make([]iter.Seq[api.Record], len(chain))
+	for i, s := range chain {
+		parts[i] = slices.Values(s.Records)
+	}
+	return merged(parts)
+}
+
+// textOf is the text of the stream from where the chain begins to where it ends, with these records.
+func textOf(chain []api.Stream, records iter.Seq[api.Record]) string {
+	s := chain[0]
+	s.To = chain[len(chain)-1].To
+	s.Records = slices.Collect(records)
+	return write(headOf(s), slices.Values(s.Records))
+}
