@@ -7,20 +7,6 @@ import (
 	"strand/api"
 )
 
-// readChain reads the texts of streams that are to be put together, all of them: what can't be read is told ahead of what does not go together.
-func readChain(texts []string) ([]api.Stream, api.Errno) {
-	if !within(len(texts), 1, api.MaxChain) {
-		return nil, api.ErrArg
-	}
-	return atFace(func() []api.Stream {
-		chain := make([]api.Stream, len(texts))
-		for i, text := range texts {
-			chain[i] = readStream(text)
-		}
-		return chain
-	})
-}
-
 // whole tells whether a stream is a whole one.
 func whole(s api.Stream) bool {
 	return s.From == 0 && !slices.ContainsFunc(s.Records, func(r api.Record) bool { return r.Free })
@@ -52,5 +38,5 @@ func textOf(chain []api.Stream, records iter.Seq[api.Record]) string {
 	s := chain[0]
 	s.To = chain[len(chain)-1].To
 	s.Records = slices.Collect(records)
-	return write(headOf(s), slices.Values(s.Records))
+	return write(s)
 }

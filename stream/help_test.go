@@ -52,7 +52,12 @@ type pair struct {
 }
 
 func made(from, to, blocks, size int, records ...api.Record) pair {
-	text := headText(from, to, blocks, size, len(records))
+	text := headText(from, to, blocks, size, len(records)) + recordsText(records)
+	return pair{api.Stream{From: from, To: to, Blocks: blocks, Size: size, Records: records}, summed(text)}
+}
+
+// recordsText is the text of records, one behind the other.
+func recordsText(records []api.Record) (text string) {
 	for _, r := range records {
 		if r.Free {
 			text += frees(r.Block)
@@ -60,7 +65,7 @@ func made(from, to, blocks, size int, records ...api.Record) pair {
 			text += writes(r.Block, r.Data)
 		}
 	}
-	return pair{api.Stream{From: from, To: to, Blocks: blocks, Size: size, Records: records}, summed(text)}
+	return text
 }
 
 // pairs are ordinary streams, and such at the limits.

@@ -26,7 +26,8 @@ func TestRecordsEndWithYield(t *testing.T) {
 	for n, want := range []int{headBytes + 4, headBytes + 7, headBytes + 11} {
 		in := &reader{text: text}
 		seen := 0
-		for range in.records(in.head()) {
+		h := in.head()
+		for range in.records(h, h.many) {
 			seen++
 			if seen == n+1 {
 				break
@@ -37,18 +38,62 @@ func TestRecordsEndWithYield(t *testing.T) {
 		}
 	}
 	in := &reader{text: text}
-	for range in.records(in.head()) {
+	h := in.head()
+	for range in.records(h, h.many) {
 	}
 	if in.at != len(text) {
 		t.Errorf("gone through all: %d bytes are read, want %d", in.at, len(text))
 	}
 }
 
+// So has the one over the records of an unsorted text; and only behind the last of them it asks whether the text ends.
+func TestUnsortedEndWithYield(t *testing.T) {
+	text := unsortedMagic + example(t)[len(unsortedMagic):]
+	for n, want := range []int{headBytes + 4, headBytes + 7, headBytes + 11} {
+		in := &reader{text: text}
+		seen := 0
+		for range in.unsorted(in.unsortedHead()) {
+			seen++
+			if seen == n+1 {
+				break
+			}
+		}
+		if in.at != want {
+			t.Errorf("ended at record %d: %d bytes are read, want %d", n, in.at, want)
+		}
+	}
+	if list, e := atFace(func() []api.Record {
+		in := &reader{text: text}
+		return slices.Collect(in.unsorted(in.unsortedHead()))
+	}); list != nil || e != api.ErrRest {
+		t.Errorf("gone through all: %v, %d", list, e)
+	}
+}
+
+// The records of chunks come one behind the other, and no further than they are asked for.
+func TestInTurn(t *testing.T) {
+	list := []chunk{{}, {records: []api.Record{{Block: 1}, {Block: 2}}}, {}, {records: []api.Record{{Block: 0}}}, {records: []api.Record{{Block: 7}}}, {}}
+	if blocks, _ := blocksOf(inTurn(list)); !slices.Equal(blocks, []int{1, 2, 0, 7}) {
+		t.Errorf("inTurn = %v", blocks)
+	}
+	for n := range 5 {
+		if got := slices.Collect(first(n, inTurn(list))); len(got) != n {
+			t.Errorf("the first %d: %v", n, got)
+		}
+	}
+	if blocks, _ := blocksOf(inTurn(nil)); blocks != nil {
+		t.Errorf("inTurn of nothing = %v", blocks)
+	}
+}
+
 // Nothing is read till the iterator is gone through.
 func TestRecordsWait(t *testing.T) {
 	in := &reader{text: example(t)[:headBytes]}
-	in.records(in.head())
-	for range first(0, in.records(head{many: 1, blocks: 1, size: 1})) {
+	h := in.head()
+	in.records(h, h.many)
+	in.loose(h, h.many)
+	in.unsorted(h)
+	for range first(0, in.records(h, h.many)) {
 		t.Error("there is a record")
 	}
 	if in.at != headBytes {

@@ -18,26 +18,37 @@ func TestParseReads(t *testing.T) {
 	}
 }
 
+const big = api.MaxId
+
+// limitHeads are From, To, Blocks and Size at their limits; badHeads are such with one of them beyond.
+var limitHeads = [][4]int{
+	{0, 1, 1, 1}, {0, big, 1, 1}, {big, 1, 1, 1}, {big, big - 1, 1, 1}, {1, 2, 100, 1}, {1, 2, 1, 64}, {2, 1, 100, 64},
+}
+
+var badHeads = [][4]int{
+	{big + 1, 1, 1, 1}, {1<<32 - 1, 1, 1, 1},
+	{1, 0, 1, 1}, {1, big + 1, 1, 1}, {1, 1<<32 - 1, 1, 1},
+	{0, 0, 1, 1}, {1, 1, 1, 1}, {big, big, 1, 1},
+	{1, 2, 0, 1}, {1, 2, 101, 1}, {1, 2, 256, 1}, {1, 2, 65535, 1},
+	{1, 2, 1, 0}, {1, 2, 1, 65}, {1, 2, 1, 256}, {1, 2, 1, 65535},
+}
+
 // P3: each limit of the head, and one beyond it.
 func TestParseHeadLimits(t *testing.T) {
-	const big = api.MaxId
-	for _, h := range [][4]int{
-		{0, 1, 1, 1}, {0, big, 1, 1}, {big, 1, 1, 1}, {big, big - 1, 1, 1}, {1, 2, 100, 1}, {1, 2, 1, 64}, {2, 1, 100, 64},
-	} {
+	for _, h := range limitHeads {
 		want := api.Stream{From: h[0], To: h[1], Blocks: h[2], Size: h[3]}
 		if s, e := stream.Parse(summed(headText(h[0], h[1], h[2], h[3], 0))); e != api.OK || !sameStream(s, want) {
 			t.Errorf("Parse of the head %#v = %#v, %d", h, s, e)
 		}
 	}
-	for _, h := range [][5]int{
-		{big + 1, 1, 1, 1, 0}, {1<<32 - 1, 1, 1, 1, 0},
-		{1, 0, 1, 1, 0}, {1, big + 1, 1, 1, 0}, {1, 1<<32 - 1, 1, 1, 0},
-		{0, 0, 1, 1, 0}, {1, 1, 1, 1, 0}, {big, big, 1, 1, 0},
-		{1, 2, 0, 1, 0}, {1, 2, 101, 1, 0}, {1, 2, 256, 1, 0}, {1, 2, 65535, 1, 0},
-		{1, 2, 1, 0, 0}, {1, 2, 1, 65, 0}, {1, 2, 1, 256, 0}, {1, 2, 1, 65535, 0},
-		{1, 2, 1, 1, 2}, {1, 2, 99, 1, 100}, {1, 2, 100, 1, 101}, {1, 2, 100, 1, 65535},
-	} {
-		text := headText(h[0], h[1], h[2], h[3], h[4])
+	var texts []string
+	for _, h := range badHeads {
+		texts = append(texts, headText(h[0], h[1], h[2], h[3], 0))
+	}
+	for _, h := range [][2]int{{1, 2}, {99, 100}, {100, 101}, {100, 65535}} {
+		texts = append(texts, headText(1, 2, h[0], 1, h[1]))
+	}
+	for _, text := range texts {
 		refused(t, text, api.ErrHead)
 		refused(t, summed(text), api.ErrHead)
 		refused(t, text+"\x03", api.ErrHead)
@@ -131,11 +142,18 @@ func TestParseCheck(t *testing.T) {
 }
 
 // told is what P3 says of a text, found by another way: all that could be wrong, by its place.
-func told(text string) api.Errno {
-	if len(text) < 18 {
+func told(text string) api.Errno { return toldAs("STRD", text) }
+
+// toldAs is what P3, P8 or P9 says of the text of a stream, of a chunk, or of an unsorted one: by what it must begin with.
+func toldAs(magic, text string) api.Errno {
+	place := 18
+	if magic == "STRC" {
+		place = 24
+	}
+	if len(text) < place {
 		return api.ErrShort
 	}
-	if text[:4] != "STRD" {
+	if text[:4] != magic {
 		return api.ErrMagic
 	}
 	at := func(i, n int) (x int) {
@@ -145,10 +163,20 @@ func told(text string) api.Errno {
 		return x
 	}
 	from, to, blocks, size, many := at(4, 4), at(8, 4), at(12, 2), at(14, 2), at(16, 2)
-	if from > api.MaxId || to > api.MaxId || to == 0 || from == to || blocks == 0 || blocks > 100 || size == 0 || size > 64 || many > blocks {
+	if from > api.MaxId || to > api.MaxId || to == 0 || from == to || blocks == 0 || blocks > 100 || size == 0 || size > 64 {
 		return api.ErrHead
 	}
-	place, least := 18, 0
+	most := blocks
+	if magic == "STRU" {
+		most = 400
+	}
+	if many > most || magic == "STRC" && (at(18, 2) >= at(20, 2) || at(22, 2) > many) {
+		return api.ErrHead
+	}
+	if magic == "STRC" {
+		many = at(22, 2)
+	}
+	least := 0
 	for ; many > 0; many-- {
 		if place == len(text) {
 			return api.ErrShort
@@ -166,12 +194,16 @@ func told(text string) api.Errno {
 		}
 		if b := at(place+1, 2); b < least || b >= blocks {
 			return api.ErrOrder
-		} else {
+		} else if magic != "STRU" {
 			least = b + 1
 		}
 		place = next
 	}
 	switch {
+	case magic == "STRU" && place < len(text):
+		return api.ErrRest
+	case magic == "STRU":
+		return api.OK
 	case place+4 > len(text):
 		return api.ErrShort
 	case summed(text[:place]) != text[:place+4]:
@@ -218,6 +250,22 @@ func TestParseEveryByte(t *testing.T) {
 	}
 }
 
+// bent is the text b with a byte turned here and there behind the first four; cut, longer, or with the right check.
+func bent(d *dice, b []byte) string {
+	for range d.below(3) {
+		b[4+d.below(len(b)-4)] = byte(d.below(6))
+	}
+	switch d.below(4) {
+	case 0:
+		b = b[:d.below(len(b)+1)]
+	case 1:
+		b = append(b, byte(d.below(4)))
+	case 2:
+		return summed(string(b[:len(b)-4]))
+	}
+	return string(b)
+}
+
 // P3: texts with several faults, cut, lengthened and turned at many places.
 func TestParseManyFaults(t *testing.T) {
 	d := dice(1)
@@ -228,18 +276,7 @@ func TestParseManyFaults(t *testing.T) {
 		if len(b) > 300 {
 			b = b[:100+d.below(200)]
 		}
-		for range d.below(3) {
-			b[4+d.below(len(b)-4)] = byte(d.below(6))
-		}
-		switch d.below(4) {
-		case 0:
-			b = b[:d.below(len(b)+1)]
-		case 1:
-			b = append(b, byte(d.below(4)))
-		case 2:
-			b = []byte(summed(string(b[:len(b)-4])))
-		}
-		count[agrees(t, string(b))]++
+		count[agrees(t, bent(&d, b))]++
 	}
 	for _, e := range []api.Errno{api.OK, api.ErrShort, api.ErrHead, api.ErrKind, api.ErrOrder, api.ErrSum, api.ErrRest} {
 		if count[e] == 0 {

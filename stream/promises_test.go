@@ -36,7 +36,30 @@ func TestNoPanic(t *testing.T) {
 				t.Fatalf("%s(%q) = %q, %d", c.name, texts, out, e)
 			}
 		}
+		if l, e := stream.Split(text, from); e != api.OK && l != nil || e == api.OK && len(l) == 0 {
+			t.Fatalf("Split(%q, %d) = %q, %d", text, from, l, e)
+		}
+		agreesCanon(t, text)
+		agreesCanon(t, "STRU"+text[min(4, len(text)):])
+		agreesJoin(t, texts)
+		agreesJoin(t, strangeChunks(&d))
 	}
+}
+
+// strangeChunks are chunks that can mostly be read, and seldom go together.
+func strangeChunks(d *dice) []string {
+	var texts []string
+	for range d.below(5) {
+		c := chunk{d.below(2), 1 + d.below(2), 2, 1, d.below(3), d.below(3), d.below(4), nil}
+		for b := range d.below(3) {
+			c.records = append(c.records, freed(b+d.below(2)))
+		}
+		texts = append(texts, c.text())
+		if d.below(10) == 0 {
+			texts = append(texts, "STRC"+strangeText(d))
+		}
+	}
+	return texts
 }
 
 // strangeText is a head that is mostly right, and any bytes behind it, mostly small ones.

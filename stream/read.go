@@ -32,35 +32,39 @@ func (in *reader) number(bytes int) uint32 {
 	return n
 }
 
-// head reads what stands ahead of the records.
+// head reads what stands ahead of a stream's records.
 func (in *reader) head() head {
-	// A text without a whole head is short, whatever it begins with.
-	if len(in.text) < headBytes {
-		panic(api.ErrShort)
-	}
-	if in.take(len(magic)) != magic {
-		panic(api.ErrMagic)
-	}
-	h := head{
-		from:   int(in.number(4)),
-		to:     int(in.number(4)),
-		blocks: int(in.number(2)),
-		size:   int(in.number(2)),
-		many:   int(in.number(2)),
-	}
+	h := in.begin(streamMagic, headBytes)
 	if !h.wellMade() {
 		panic(api.ErrHead)
 	}
 	return h
 }
 
-// records goes, once, through the records behind the head h, and reads on to the text's end behind the last of them. Where yield tells false it ends, and has read no further.
-func (in *reader) records(h head) iter.Seq[api.Record] {
+// begin reads the first bytes of a text that has a head of so many bytes in all, up to how many records there are. Whether the head may be is still to be asked.
+func (in *reader) begin(magic string, bytes int) head {
+	// A text without a whole head is short, whatever it begins with.
+	if len(in.text) < bytes {
+		panic(api.ErrShort)
+	}
+	if in.take(len(magic)) != magic {
+		panic(api.ErrMagic)
+	}
+	return head{
+		from:   int(in.number(4)),
+		to:     int(in.number(4)),
+		blocks: int(in.number(2)),
+		size:   int(in.number(2)),
+		many:   int(in.number(2)),
+	}
+}
+
+// records goes, once, through the next n records, in rising order of their blocks, and reads on to the text's end behind the last of them. Where yield tells false it ends, and has read no further.
+func (in *reader) records(h head, n int) iter.Seq[api.Record] {
 	return func(yield func(api.Record) bool) {
 		last := -1
-		for range h.many {
-			r := in.record(h.size)
-			if !h.follows(r.Block, last) {
+		for r := range in.loose(h, n) {
+			if r.Block <= last {
 				panic(api.ErrOrder)
 			}
 			last = r.Block
@@ -69,6 +73,21 @@ func (in *reader) records(h head) iter.Seq[api.Record] {
 			}
 		}
 		in.end()
+	}
+}
+
+// loose goes, once, through the next n records, in any order of their blocks. Where yield tells false it ends, and has read no further.
+func (in *reader) loose(h head, n int) iter.Seq[api.Record] {
+	return func(yield func(api.Record) bool) {
+		for range n {
+			r := in.record(h.size)
+			if r.Block >= h.blocks {
+				panic(api.ErrOrder)
+			}
+			if !yield(r) {
+				return
+			}
+		}
 	}
 }
 
@@ -88,9 +107,14 @@ func (in *reader) record(size int) api.Record {
 // end reads the check of all bytes ahead, behind which there may be nothing.
 func (in *reader) end() {
 	sum := check(in.text[:in.at])
-	if in.number(4) != sum {
+	if in.number(checkBytes) != sum {
 		panic(api.ErrSum)
 	}
+	in.nothing()
+}
+
+// nothing asks that no bytes are left.
+func (in *reader) nothing() {
 	if in.at < len(in.text) {
 		panic(api.ErrRest)
 	}
@@ -100,15 +124,28 @@ func (in *reader) end() {
 func readStream(text string) api.Stream {
 	in := &reader{text: text}
 	h := in.head()
-	records := slices.Collect(in.records(h))
-	return api.Stream{From: h.from, To: h.to, Blocks: h.blocks, Size: h.size, Records: records}
+	return h.stream(slices.Collect(in.records(h, h.many)))
+}
+
+// readAll reads texts of which there must be one at least and most at most: all of them, since what can't be read is told ahead of what does not go together.
+func readAll[T any](texts []string, most int, read func(text string) T) ([]T, api.Errno) {
+	if !within(len(texts), 1, most) {
+		return nil, api.ErrArg
+	}
+	return atFace(func() []T {
+		list := make([]T, len(texts))
+		for i, text := range texts {
+			list[i] = read(text)
+		}
+		return list
+	})
 }
 
 // readSome reads a stream's text up to the records that are asked for, and no further if there are more.
 func readSome(text string, from, many int) []api.Record {
 	in := &reader{text: text}
 	h := in.head()
-	records := in.records(h)
+	records := in.records(h, h.many)
 	// Held against h.many one by one: the sum of the two may be more than an int can hold.
 	if from < h.many && many < h.many-from {
 		records = first(from+many, records)

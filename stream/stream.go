@@ -17,7 +17,7 @@ func Serialize(s api.Stream) (string, api.Errno) {
 	if !wellMade(s) {
 		return "", api.ErrStream
 	}
-	return write(headOf(s), slices.Values(s.Records)), api.OK
+	return write(s), api.OK
 }
 
 // Apply does what a stream says to a volume (P5).
@@ -34,7 +34,7 @@ func Apply(text string, v []api.Cell) ([]api.Cell, api.Errno) {
 
 // Compose puts streams together (P6).
 func Compose(texts []string) (string, api.Errno) {
-	chain, e := readChain(texts)
+	chain, e := readAll(texts, api.MaxChain, readStream)
 	if e != api.OK {
 		return "", e
 	}
@@ -46,7 +46,7 @@ func Compose(texts []string) (string, api.Errno) {
 
 // Squash puts streams together with a whole one (P6).
 func Squash(texts []string) (string, api.Errno) {
-	chain, e := readChain(texts)
+	chain, e := readAll(texts, api.MaxChain, readStream)
 	if e != api.OK {
 		return "", e
 	}
@@ -60,13 +60,38 @@ func Squash(texts []string) (string, api.Errno) {
 }
 
 // Split cuts a stream into chunks (P7).
-func Split(text string, limit int) ([]string, api.Errno) { return nil, api.OK }
+func Split(text string, limit int) ([]string, api.Errno) {
+	s, e := Parse(text)
+	if e != api.OK {
+		return nil, e
+	}
+	if bareBytes+longest(slices.Values(s.Records)) > limit {
+		return nil, api.ErrLimit
+	}
+	return chunkTexts(headOf(s), pieces(slices.Values(s.Records), limit)), api.OK
+}
 
 // Join puts chunks together (P8).
-func Join(chunks []string) (string, api.Errno) { return "", api.OK }
+func Join(chunks []string) (string, api.Errno) {
+	list, e := readAll(chunks, api.MaxBlocks, readChunk)
+	if e != api.OK {
+		return "", e
+	}
+	s, together := joined(list)
+	if !together {
+		return "", api.ErrChunk
+	}
+	return write(s), api.OK
+}
 
 // Canon sorts an unsorted text (P9).
-func Canon(text string) (string, api.Errno) { return "", api.OK }
+func Canon(text string) (string, api.Errno) {
+	s, e := atFace(func() api.Stream { return readUnsorted(text) })
+	if e != api.OK {
+		return "", e
+	}
+	return write(s), api.OK
+}
 
 // Some tells some of the records of a stream, and reads no further (P10).
 func Some(text string, from int, many int) ([]api.Record, api.Errno) {

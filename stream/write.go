@@ -2,21 +2,35 @@ package stream
 
 import (
 	"iter"
+	"slices"
 
 	"strand/api"
 )
 
-// write is the text of the stream with this head and these records.
-func write(h head, records iter.Seq[api.Record]) string {
-	out := appendHead(nil, h)
+// write is the text of a stream that is well made.
+func write(s api.Stream) string {
+	return closed(appendHead(nil, streamMagic, headOf(s)), slices.Values(s.Records))
+}
+
+// writeChunk is the text of a chunk.
+func writeChunk(c chunk) string {
+	out := appendHead(nil, chunkMagic, c.head)
+	out = appendNumber(out, uint32(c.number), 2)
+	out = appendNumber(out, uint32(c.chunks), 2)
+	out = appendNumber(out, uint32(len(c.records)), 2)
+	return closed(out, slices.Values(c.records))
+}
+
+// closed is the text that begins with out, has these records behind it, and the check.
+func closed(out []byte, records iter.Seq[api.Record]) string {
 	for r := range records {
 		out = appendRecord(out, r)
 	}
-	return string(appendNumber(out, check(string(out)), 4))
+	return string(appendNumber(out, check(string(out)), checkBytes))
 }
 
-// appendHead writes what stands ahead of the records.
-func appendHead(out []byte, h head) []byte {
+// appendHead writes what all heads begin with.
+func appendHead(out []byte, magic string, h head) []byte {
 	out = append(out, magic...)
 	out = appendNumber(out, uint32(h.from), 4)
 	out = appendNumber(out, uint32(h.to), 4)
