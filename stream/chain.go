@@ -5,6 +5,7 @@ import (
 	"slices"
 
 	"strand/api"
+	"strand/wire"
 )
 
 // whole tells whether a stream is a whole one.
@@ -30,7 +31,7 @@ func latest(chain []api.Stream) iter.Seq[api.Record] {
 	for i, s := range chain {
 		parts[i] = slices.Values(s.Records)
 	}
-	return merged(parts)
+	return wire.Merged(parts)
 }
 
 // textOf is the text of the stream from where the chain begins to where it ends, with these records.
@@ -39,4 +40,15 @@ func textOf(chain []api.Stream, records iter.Seq[api.Record]) string {
 	s.To = chain[len(chain)-1].To
 	s.Records = slices.Collect(records)
 	return write(s)
+}
+
+// held goes through the records that are not Free.
+func held(records iter.Seq[api.Record]) iter.Seq[api.Record] {
+	return func(yield func(api.Record) bool) {
+		for r := range records {
+			if !r.Free && !yield(r) {
+				return
+			}
+		}
+	}
 }

@@ -6,20 +6,24 @@ import (
 	"slices"
 
 	"strand/api"
+	"strand/wire"
 )
 
+// chunkHeadBytes is how many bytes a chunk's head has.
+const chunkHeadBytes = 24
+
 // bareBytes is how many bytes a chunk without records has.
-const bareBytes = chunkHeadBytes + checkBytes
+const bareBytes = chunkHeadBytes + wire.CheckBytes
 
 // chunk is a piece of a stream: the stream's head, the chunk's number, how many chunks there are, and the records that are here.
 type chunk struct {
-	head           head
+	head           wire.Head
 	number, chunks int
 	records        []api.Record
 }
 
 // recordBytes is how many bytes a record has in a text.
-func recordBytes(r api.Record) int { return blockBytes + len(r.Data) }
+func recordBytes(r api.Record) int { return wire.BlockBytes + len(r.Data) }
 
 // longest is how many bytes that one of the records has that has most of them; 0 without records.
 func longest(records iter.Seq[api.Record]) int {
@@ -48,7 +52,7 @@ func pieces(records iter.Seq[api.Record], limit int) [][]api.Record {
 }
 
 // chunkTexts are the texts of the chunks that have these pieces of the stream with this head.
-func chunkTexts(h head, list [][]api.Record) []string {
+func chunkTexts(h wire.Head, list [][]api.Record) []string {
 	texts := make([]string, len(list))
 	for i, piece := range list {
 		texts[i] = writeChunk(chunk{head: h, number: i, chunks: len(list), records: piece})
@@ -58,19 +62,19 @@ func chunkTexts(h head, list [][]api.Record) []string {
 
 // readChunk reads a chunk's text whole.
 func readChunk(text string) chunk {
-	in := &reader{text: text}
-	c, here := in.chunkHead()
-	c.records = slices.Collect(in.records(c.head, here))
+	in := wire.OverText(text)
+	c, here := chunkHead(in)
+	c.records = slices.Collect(in.Records(c.head, here))
 	return c
 }
 
 // chunkHead reads what stands ahead of a chunk's records, and how many of them are here.
-func (in *reader) chunkHead() (c chunk, here int) {
-	c.head = in.begin(chunkMagic, chunkHeadBytes)
-	c.number = int(in.number(2))
-	c.chunks = int(in.number(2))
-	here = int(in.number(2))
-	if !c.head.wellMade() || c.number >= c.chunks || here > c.head.many {
+func chunkHead(in *wire.Reader) (c chunk, here int) {
+	c.head = in.Begin(wire.ChunkMagic, chunkHeadBytes)
+	c.number = int(in.Number(2))
+	c.chunks = int(in.Number(2))
+	here = int(in.Number(2))
+	if !c.head.WellMade() || c.number >= c.chunks || here > c.head.Many {
 		panic(api.ErrHead)
 	}
 	return c, here
@@ -83,8 +87,8 @@ func joined(list []chunk) (api.Stream, bool) {
 		return api.Stream{}, false
 	}
 	h := list[0].head
-	s := h.stream(slices.Collect(inTurn(list)))
-	return s, len(s.Records) == h.many && wellMade(s)
+	s := h.Stream(slices.Collect(inTurn(list)))
+	return s, len(s.Records) == h.Many && wellMade(s)
 }
 
 // complete tells whether the chunks, which are sorted by their numbers, have one head and are just those that it takes, each once.

@@ -5,6 +5,7 @@ import (
 	"slices"
 
 	"strand/api"
+	"strand/wire"
 )
 
 // Parse reads a stream (P3).
@@ -68,7 +69,7 @@ func Split(text string, limit int) ([]string, api.Errno) {
 	if bareBytes+longest(slices.Values(s.Records)) > limit {
 		return nil, api.ErrLimit
 	}
-	return chunkTexts(headOf(s), pieces(slices.Values(s.Records), limit)), api.OK
+	return chunkTexts(wire.HeadOf(s), pieces(slices.Values(s.Records), limit)), api.OK
 }
 
 // Join puts chunks together (P8).

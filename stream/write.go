@@ -3,56 +3,27 @@ package stream
 import (
 	"iter"
 	"slices"
+	"strings"
 
 	"strand/api"
+	"strand/wire"
 )
 
 // write is the text of a stream that is well made.
 func write(s api.Stream) string {
-	return closed(appendHead(nil, streamMagic, headOf(s)), slices.Values(s.Records))
+	return closed(wire.HeadText(wire.StreamMagic, wire.HeadOf(s)), slices.Values(s.Records))
 }
 
 // writeChunk is the text of a chunk.
 func writeChunk(c chunk) string {
-	out := appendHead(nil, chunkMagic, c.head)
-	out = appendNumber(out, uint32(c.number), 2)
-	out = appendNumber(out, uint32(c.chunks), 2)
-	out = appendNumber(out, uint32(len(c.records)), 2)
-	return closed(out, slices.Values(c.records))
-}
-
-// closed is the text that begins with out, has these records behind it, and the check.
-func closed(out []byte, records iter.Seq[api.Record]) string {
-	for r := range records {
-		out = appendRecord(out, r)
+	head := wire.HeadText(wire.ChunkMagic, c.head)
+	for _, n := range []int{c.number, c.chunks, len(c.records)} {
+		head += wire.NumberText(uint32(n), 2)
 	}
-	return string(appendNumber(out, check(string(out)), checkBytes))
+	return closed(head, slices.Values(c.records))
 }
 
-// appendHead writes what all heads begin with.
-func appendHead(out []byte, magic string, h head) []byte {
-	out = append(out, magic...)
-	out = appendNumber(out, uint32(h.from), 4)
-	out = appendNumber(out, uint32(h.to), 4)
-	out = appendNumber(out, uint32(h.blocks), 2)
-	out = appendNumber(out, uint32(h.size), 2)
-	return appendNumber(out, uint32(h.many), 2)
-}
-
-// appendRecord writes a record.
-func appendRecord(out []byte, r api.Record) []byte {
-	kind := byte(written)
-	if r.Free {
-		kind = freed
-	}
-	out = appendNumber(append(out, kind), uint32(r.Block), 2)
-	return append(out, r.Data...)
-}
-
-// appendNumber writes a number in so many bytes, the highest first.
-func appendNumber(out []byte, n uint32, bytes int) []byte {
-	for shift := 8 * (bytes - 1); shift >= 0; shift -= 8 {
-		out = append(out, byte(n>>shift))
-	}
-	return out
+// closed is the text that begins with this head, has these records behind it, and the check.
+func closed(head string, records iter.Seq[api.Record]) string {
+	return strings.Join(slices.Collect(wire.Text(head, records)), "")
 }

@@ -1,4 +1,4 @@
-package stream
+package wire
 
 import (
 	"iter"
@@ -65,12 +65,12 @@ func TestMerged(t *testing.T) {
 		{[]int{0, 1, 2, 3}, []int{1, 2}, []int{2, 9}, []int{0, 1, 2, 3, 9}, "abcac"},
 		{[]int{2, 9}, []int{1, 2}, []int{0, 1, 2, 3}, []int{0, 1, 2, 3, 9}, "cccca"},
 	} {
-		blocks, data := blocksOf(merged(partsOf(&tap{blocks: c.a, data: "a"}, &tap{blocks: c.b, data: "b"}, &tap{blocks: c.c, data: "c"})))
+		blocks, data := blocksOf(Merged(partsOf(&tap{blocks: c.a, data: "a"}, &tap{blocks: c.b, data: "b"}, &tap{blocks: c.c, data: "c"})))
 		if !slices.Equal(blocks, c.want) || data != c.data {
 			t.Errorf("merged %v, %v, %v = %v, %q, want %v, %q", c.a, c.b, c.c, blocks, data, c.want, c.data)
 		}
 	}
-	if blocks, _ := blocksOf(merged(nil)); blocks != nil {
+	if blocks, _ := blocksOf(Merged(nil)); blocks != nil {
 		t.Errorf("merged of nothing = %v", blocks)
 	}
 }
@@ -80,7 +80,7 @@ func TestMergedReadsNoFurther(t *testing.T) {
 	for n, want := range [][2]int{{1, 1}, {2, 1}, {2, 2}, {3, 3}, {3, 4}} {
 		a, b := &tap{blocks: []int{0, 3, 8, 9}, data: "a"}, &tap{blocks: []int{1, 3, 7, 9}, data: "b"}
 		seen := 0
-		for range merged(partsOf(a, b)) {
+		for range Merged(partsOf(a, b)) {
 			seen++
 			if seen == n+1 {
 				break
@@ -95,8 +95,7 @@ func TestMergedReadsNoFurther(t *testing.T) {
 // Nothing is asked for till the merged records are gone through.
 func TestMergedWaits(t *testing.T) {
 	a := &tap{blocks: []int{0}}
-	merged(partsOf(a))
-	held(a.records)
+	Merged(partsOf(a))
 	if a.asked != 0 {
 		t.Errorf("asked for %d", a.asked)
 	}
@@ -114,7 +113,7 @@ func TestMergedGivesUp(t *testing.T) {
 						t.Errorf("the panic %v has become %v", fault, got)
 					}
 				}()
-				blocksOf(merged(partsOf(taps...)))
+				blocksOf(Merged(partsOf(taps...)))
 			}()
 			for i, p := range taps {
 				// Those that were not begun yet need not end.
@@ -125,22 +124,32 @@ func TestMergedGivesUp(t *testing.T) {
 		}
 	}
 	early := &tap{fault: api.ErrSum}
-	if answer, e := atFace(func() []api.Record { return slices.Collect(merged(partsOf(&tap{blocks: []int{0}}, early))) }); answer != nil || e != api.ErrSum {
-		t.Errorf("atFace = %v, %d", answer, e)
+	if e := Caught(func() { blocksOf(Merged(partsOf(&tap{blocks: []int{0}}, early))) }); e != api.ErrSum {
+		t.Errorf("Caught = %d", e)
 	}
 }
 
-// What is Free is left out, and the iterator ends with yield.
-func TestHeld(t *testing.T) {
-	list := []api.Record{{Free: true}, {Block: 1, Data: "a"}, {Free: true, Block: 2}, {Free: true, Block: 3}, {Block: 4, Data: "b"}, {Free: true, Block: 5}}
-	if got := slices.Collect(held(slices.Values(list))); !slices.Equal(got, []api.Record{list[1], list[4]}) {
-		t.Errorf("held = %v", got)
-	}
-	a := &tap{blocks: []int{0, 1, 2}}
-	for range held(a.records) {
-		break
-	}
-	if a.asked != 1 || !a.ended {
-		t.Errorf("ended at the first, it asked for %d", a.asked)
+// Of each block the last record is left, in rising order, whatever comes.
+func TestLatestOf(t *testing.T) {
+	for _, c := range []struct {
+		blocks []int
+		data   string
+		want   []int
+		left   string
+	}{
+		{nil, "", nil, ""},
+		{[]int{7}, "a", []int{7}, "a"},
+		{[]int{2, 1, 0}, "abc", []int{0, 1, 2}, "cba"},
+		{[]int{0, 0, 0}, "abc", []int{0}, "c"},
+		{[]int{3, 1, 3, 2, 1, 3}, "abcdef", []int{1, 2, 3}, "edf"},
+		{[]int{9, 0, 9, 0}, "abcd", []int{0, 9}, "dc"},
+	} {
+		var list []api.Record
+		for i, b := range c.blocks {
+			list = append(list, api.Record{Block: b, Data: c.data[i : i+1]})
+		}
+		if blocks, data := blocksOf(slices.Values(LatestOf(list))); !slices.Equal(blocks, c.want) || data != c.left {
+			t.Errorf("LatestOf %v, %q = %v, %q, want %v, %q", c.blocks, c.data, blocks, data, c.want, c.left)
+		}
 	}
 }

@@ -1,7 +1,9 @@
-package stream
+package wire
 
 import (
+	"cmp"
 	"iter"
+	"slices"
 
 	"strand/api"
 )
@@ -16,8 +18,8 @@ type source struct {
 // step goes on to the next record.
 func (s *source) step() { s.at, s.more = s.next() }
 
-// merged goes through the records of several iterators, each of them in rising order of the blocks, as through those of one. Of each block it tells the record of the last iterator that has one.
-func merged(parts []iter.Seq[api.Record]) iter.Seq[api.Record] {
+// Merged goes through the records of several iterators, each of them in rising order of the blocks, as through those of one. Of each block it tells the record of the last iterator that has one.
+func Merged(parts []iter.Seq[api.Record]) iter.Seq[api.Record] {
 	return func(yield func(api.Record) bool) {
 		sources := make([]source, len(parts))
 		for i, records := range parts {
@@ -56,13 +58,10 @@ func pass(sources []source, block int) {
 	}
 }
 
-// held goes through the records that are not Free.
-func held(records iter.Seq[api.Record]) iter.Seq[api.Record] {
-	return func(yield func(api.Record) bool) {
-		for r := range records {
-			if !r.Free && !yield(r) {
-				return
-			}
-		}
-	}
+// LatestOf is the last record of each block, in rising order of the blocks; it is made in the list's own memory.
+func LatestOf(list []api.Record) []api.Record {
+	// Turned round, the last record of a block stands first, and that is the one which is kept of them.
+	slices.Reverse(list)
+	slices.SortStableFunc(list, func(a, b api.Record) int { return cmp.Compare(a.Block, b.Block) })
+	return slices.CompactFunc(list, func(a, b api.Record) bool { return a.Block == b.Block })
 }
